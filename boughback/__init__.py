@@ -1,0 +1,1 @@
+"""Boughback: deeds taken back, taken out of the midst, and poured together."""
