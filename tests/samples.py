@@ -1,0 +1,58 @@
+"""Documents and rows for the tests, drawn from a seeded source, so that each run sees the same ones."""
+
+from boughback.deeds import Cut, Move, Put, Set
+from boughback.docs import below
+
+# Of some of these names one begins another.
+NAMES = ("a", "ab", "abc", "b", "ba")
+NUMBERS = (-1, 0, 1, 2)
+DEEPEST = 5
+
+
+def free_paths(doc):
+    """The paths that are not there, right below those that are."""
+    return [place + (name,) for place in doc for name in NAMES if len(place) < DEEPEST and place + (name,) not in doc]
+
+
+def fitting_deed(source, doc):
+    """A deed of any of the four kinds that fits the document."""
+    while True:
+        kind = source.choice((Put, Cut, Set, Move))
+        path = source.choice(sorted(doc))
+        if kind is Put:
+            return Put(source.choice(free_paths(doc)), source.choice(NUMBERS))
+        if kind is Set:
+            return Set(path, doc[path], source.choice([number for number in NUMBERS if number != doc[path]]))
+        if kind is Cut and path != () and not below(doc, path):
+            return Cut(path, doc[path])
+        if kind is Move:
+            deed = Move(path, source.choice(free_paths(doc)))
+            if deed.fits(doc):
+                return deed
+
+
+def fitting_row(source, doc, many):
+    """A row of so many deeds that fits the document."""
+    row = []
+    for _ in range(many):
+        row.append(fitting_deed(source, doc))
+        doc = row[-1].done(doc)
+    return row
+
+
+def some_doc(source, parts):
+    """A document of so many parts."""
+    doc = {(): source.choice(NUMBERS)}
+    while len(doc) < parts:
+        doc[source.choice(free_paths(doc))] = source.choice(NUMBERS)
+    return doc
+
+
+def great_doc():
+    """A document of 300 parts, one of which has a path of 40 names."""
+    doc = {("a",) * names: names for names in range(41)}
+    for first in "bcdefghijklmn":
+        for second in "abcdefghijklmnopqrstuvwxyz":
+            if len(doc) < 300:
+                doc[(first + second,)] = 1
+    return doc
