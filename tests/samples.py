@@ -48,6 +48,27 @@ def some_doc(source, parts):
     return doc
 
 
+def small_docs(names, most, deepest):
+    """All documents of these names with so many parts at most, none deeper than told; each part bears 0."""
+    found = [((),)]
+    for paths in found:
+        for path in [place + (name,) for place in paths for name in names if len(place) < deepest]:
+            more = tuple(sorted({*paths, path}))
+            if len(more) <= most and more not in found:
+                found.append(more)
+    return [{path: 0 for path in paths} for paths in found]
+
+
+def all_deeds(doc, names, numbers):
+    """All deeds over these names and numbers that fit the document."""
+    free = [place + (name,) for place in doc for name in names if place + (name,) not in doc]
+    deeds = [Put(path, number) for path in free for number in numbers]
+    deeds += [Cut(path, doc[path]) for path in doc]
+    deeds += [Set(path, doc[path], number) for path in doc for number in numbers]
+    deeds += [Move(path, goal) for path in doc for goal in free]
+    return [deed for deed in deeds if deed.fits(doc)]
+
+
 def great_doc():
     """A document of 300 parts, one of which has a path of 40 names."""
     doc = {("a",) * names: names for names in range(41)}

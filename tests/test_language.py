@@ -24,6 +24,8 @@ DOUBLE = {"__init__", "__eq__", "__repr__", "__str__", "__len__"}
 WORDS = re.compile(r"\b(type|typing|typing_extensions|enum|Enum|IntEnum|StrEnum|Flag|IntFlag|Generic|Protocol|ABC|"
                    r"ABCMeta|namedtuple|NamedTuple|TypedDict|TYPE_CHECKING|abstractmethod)\b|"
                    r"dataclass|overload|contextmanager")
+WALKED = {"zip", "enumerate", "reversed", "range", "items", "keys", "values"}
+WALKERS = {"list", "tuple", "dict", "sorted", "sum", "any", "all", "enumerate", "zip", "min", "max", "join"}
 UNUSED = set("""register mro elements open input version_info with_traceback add_note""".split())
 
 
@@ -48,12 +50,21 @@ def bound_names(tree):
             yield node.id
         elif isinstance(node, ast.arg):
             yield node.arg
+        elif isinstance(node, ast.ExceptHandler) and node.name:
+            yield node.name
         elif isinstance(node, ast.ImportFrom):
             for alias in node.names:
                 yield alias.asname or alias.name
     for node in tree.body:
         if isinstance(node, (ast.FunctionDef, ast.ClassDef)):
             yield node.name
+
+
+def called_name(node):
+    """The name by which a call calls, that of a function or of a method; None of what is no call."""
+    if not isinstance(node, ast.Call):
+        return None
+    return node.func.id if isinstance(node.func, ast.Name) else node.func.attr
 
 
 class Language(unittest.TestCase):
@@ -141,6 +152,26 @@ class Language(unittest.TestCase):
             for node in ast.walk(tree):
                 if isinstance(node, ast.Name) and isinstance(node.ctx, ast.Load) and node.id not in bound:
                     self.assertIn(node.id, OWN_NAMES, (file.name, node.lineno))
+
+    def test_locals_are_not_called_like_classes_or_imports(self):
+        for file in FILES:
+            tree = tree_of(file)
+            taken = {node.name for node in tree.body if isinstance(node, ast.ClassDef)}
+            taken.update(alias.name for node in tree.body if isinstance(node, ast.ImportFrom) for alias in node.names)
+            for node in ast.walk(tree):
+                if isinstance(node, ast.arg):
+                    self.assertNotIn(node.arg, taken, file.name)
+                elif isinstance(node, ast.Name) and isinstance(node.ctx, ast.Store):
+                    self.assertNotIn(node.id, taken, file.name)
+
+    def test_walked_at_once(self):
+        for file in FILES:
+            tree = tree_of(file)
+            fine = [node.iter for node in ast.walk(tree) if isinstance(node, (ast.For, ast.comprehension))]
+            fine += [node.args[0] for node in ast.walk(tree) if called_name(node) in WALKERS and node.args]
+            for node in ast.walk(tree):
+                if called_name(node) in WALKED:
+                    self.assertIn(node, fine, (file.name, node.lineno))
 
     def test_methods_and_values(self):
         methods = own_methods()
