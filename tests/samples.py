@@ -1,5 +1,6 @@
-"""Documents and rows for the tests, drawn from a seeded source, so that each run sees the same ones."""
+"""Documents, rows, boughs and trees for the tests, drawn from a seeded source, so that each run sees the same ones."""
 
+from boughback.boughs import Bough
 from boughback.deeds import Cut, Move, Put, Set
 from boughback.docs import below
 
@@ -77,3 +78,46 @@ def great_doc():
             if len(doc) < 300:
                 doc[(first + second,)] = 1
     return doc
+
+
+def some_bough(source, stands):
+    """A bough of so many stands, some far from the root stand, some near it, with rows of one to three deeds."""
+    bough = Bough(some_doc(source, 6))
+    for number in range(1, stands):
+        parent = source.choice((number - 1, number - 1, source.randrange(number)))
+        bough.grow(parent, fitting_row(source, bough.doc(parent), source.randrange(1, 4)))
+    return bough
+
+
+def told_bough(bough):
+    """All that a bough has: of each stand its parent, its told row and its document; and the words."""
+    stands = [(bough.parent(stand), [deed.told() for deed in bough.row(stand)], bough.doc(stand))
+              for stand in range(bough.many())]
+    return stands, [(word, bough.called(word)) for word in bough.words()]
+
+
+def some_tree(source, many, longest, greatest):
+    """The parents, lengths and sizes of a tree of so many stands: now a line, now a star, now between these."""
+    back = source.choice((1, 2, 4, many))
+    parents = [None] + [source.randrange(max(0, number - back), number) for number in range(1, many)]
+    lengths = [0] + [source.randrange(1, longest + 1) for _ in range(1, many)]
+    return parents, lengths, [source.randrange(1, greatest + 1) for _ in range(many)]
+
+
+def path_up(parents, stand):
+    """The stands from this one up to 0."""
+    path = [stand]
+    while parents[path[-1]] is not None:
+        path.append(parents[path[-1]])
+    return path
+
+
+def by_the_way(parents, lengths, one, other):
+    """How far two stands are: the sum of the lengths of those stands that are on one of both lines alone."""
+    return sum(lengths[stand] for stand in set(path_up(parents, one)) ^ set(path_up(parents, other)))
+
+
+def all_by_the_way(parents, lengths):
+    """For each stand how far each one is from it."""
+    stands = range(len(parents))
+    return [[by_the_way(parents, lengths, one, other) for other in stands] for one in stands]

@@ -4,19 +4,7 @@ import random
 import unittest
 
 from boughback.spans import spans
-
-
-def path_up(parents, stand):
-    """The stands from this one up to 0."""
-    path = [stand]
-    while parents[path[-1]] is not None:
-        path.append(parents[path[-1]])
-    return path
-
-
-def by_the_way(parents, lengths, one, other):
-    """The sum of the lengths of those stands that are on one of both lines alone."""
-    return sum(lengths[stand] for stand in set(path_up(parents, one)) ^ set(path_up(parents, other)))
+from samples import all_by_the_way
 
 
 class SpansCase(unittest.TestCase):
@@ -58,7 +46,7 @@ class Spans(SpansCase):
             many = source.randrange(1, 14)
             parents = [None] + [source.randrange(number) for number in range(1, many)]
             lengths = [0] + [source.randrange(1, 9) for _ in range(1, many)]
-            wanted = [[by_the_way(parents, lengths, one, other) for other in range(many)] for one in range(many)]
+            wanted = all_by_the_way(parents, lengths)
             self.assert_spans(parents, lengths, wanted)
             for one in range(many):
                 self.assertEqual(wanted[one][one], 0)
@@ -95,8 +83,7 @@ class OwnersAndBounds(SpansCase):
         source = random.Random(31)
         parents = [None] + [source.randrange(max(0, number - 4), number) for number in range(1, 120)]
         lengths = [0] + [source.randrange(1, great + 1) for _ in range(119)]
-        self.assert_spans(parents, lengths, [[by_the_way(parents, lengths, one, other) for other in range(120)]
-                                             for one in range(120)])
+        self.assert_spans(parents, lengths, all_by_the_way(parents, lengths))
 
 
 if __name__ == "__main__":

@@ -8,7 +8,7 @@ from boughback.deeds import Cut, Move, Put, Set
 from boughback.errors import NoStand
 from boughback.rows import row_done, row_told
 from boughback.ways import meet, way_between, way_row
-from samples import fitting_row, great_doc, some_doc
+from samples import great_doc, some_bough
 
 GREAT = 10 ** 60 - 1
 DOC = {(): 1, ("a",): 2}
@@ -24,15 +24,6 @@ def small_bough():
     bough = Bough(DOC)
     for stand, row in GROWN:
         bough.grow(stand, row)
-    return bough
-
-
-def great_bough(source, stands):
-    """A bough of many stands, some far from the root stand, some near it."""
-    bough = Bough(some_doc(source, 6))
-    for number in range(1, stands):
-        parent = source.choice((number - 1, number - 1, source.randrange(number)))
-        bough.grow(parent, fitting_row(source, bough.doc(parent), source.randrange(1, 4)))
     return bough
 
 
@@ -66,7 +57,7 @@ class Meet(unittest.TestCase):
             self.assert_meet(bough, stand, stand, stand)
 
     def test_the_last_one_that_both_lines_have(self):
-        bough = great_bough(random.Random(15), 60)
+        bough = some_bough(random.Random(15), 60)
         for one in range(60):
             for other in range(60):
                 both = [stand for stand in bough.line(one) if stand in bough.line(other)]
@@ -116,7 +107,7 @@ class Ways(unittest.TestCase):
         self.assertEqual(row_told(way_row(bough, 1, 2)), pair + pair)
 
     def test_leads_from_each_stand_to_each_other(self):
-        bough = great_bough(random.Random(16), 40)
+        bough = some_bough(random.Random(16), 40)
         for one in range(40):
             for other in range(40):
                 doc, stand = bough.doc(one), one
@@ -128,14 +119,14 @@ class Ways(unittest.TestCase):
                 self.assertEqual(row_done(bough.doc(one), way_row(bough, one, other)), bough.doc(other))
 
     def test_no_stand_twice_on_a_way(self):
-        bough = great_bough(random.Random(17), 40)
+        bough = some_bough(random.Random(17), 40)
         for one in range(40):
             for other in range(40):
                 stands = [one] + [stand for stand, _ in way_between(bough, one, other)]
                 self.assertEqual(len(set(stands)), len(stands))
 
     def test_each_document_is_what_all_deeds_from_the_root_make(self):
-        bough = great_bough(random.Random(18), 60)
+        bough = some_bough(random.Random(18), 60)
         for stand in range(60):
             row = [deed for each in bough.line(stand) for deed in bough.row(each)]
             self.assertEqual(row_told(way_row(bough, 0, stand)), row_told(row))
@@ -198,7 +189,7 @@ class OwnersAndBounds(unittest.TestCase):
         self.assertEqual(bough.doc(100), {**doc, (): 50, ("a",) * 40: 90})
 
     def test_a_hundred_and_twenty_stands(self):
-        bough = great_bough(random.Random(19), 120)
+        bough = some_bough(random.Random(19), 120)
         for one, other in ((0, 119), (119, 0), (119, 60), (60, 119), (118, 117)):
             self.assertEqual(row_done(bough.doc(one), way_row(bough, one, other)), bough.doc(other))
 
