@@ -59,10 +59,7 @@ class Bough:
 
     def call(self, word, stand):
         """Gives the word to the stand; refuses with NoWord, Twice, NoStand."""
-        if not is_name(word):
-            raise NoWord("a word is one to eight small letters")
-        if word in self.given:
-            raise Twice("the word is given already")
+        self.must_be_free(word)
         self.must_have(stand)
         self.given[word] = stand
 
@@ -85,6 +82,13 @@ class Bough:
         # Python would take True, and numbers below 0, as places in a list.
         if not is_whole(stand) or not 0 <= stand < len(self.docs):
             raise NoStand("there is no such stand")
+
+    def must_be_free(self, word):
+        """Refuses with NoWord where the text is no name, with Twice where the word is given already."""
+        if not is_name(word):
+            raise NoWord("a word is one to eight small letters")
+        if word in self.given:
+            raise Twice("the word is given already")
 
     def must_be_given(self, word):
         """Refuses with NoWord where the word is not given."""

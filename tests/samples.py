@@ -1,4 +1,6 @@
-"""Documents, rows, boughs and trees for the tests, drawn from a seeded source, so that each run sees the same ones."""
+"""Documents, rows, boughs, trees and texts for the tests; what is drawn is from a seeded source, the same each run."""
+
+import re
 
 from boughback.boughs import Bough
 from boughback.deeds import Cut, Move, Put, Set
@@ -8,6 +10,15 @@ from boughback.docs import below
 NAMES = ("a", "ab", "abc", "b", "ba")
 NUMBERS = (-1, 0, 1, 2)
 DEEPEST = 5
+
+# The texts of numbers, paths, deeds and rows, by the words of the document.
+NUMBER = r"(?:0|-?[1-9][0-9]{0,59})"
+PATH = r"(?:/|(?:/[a-z]{1,8}){1,40})"
+DEED = rf"(?:(?:put|cut) {PATH} {NUMBER}|set {PATH} {NUMBER} {NUMBER}|move {PATH} {PATH})"
+ROW = rf"(?:{DEED}(?:; {DEED})*)?"
+DOC = rf"{PATH} {NUMBER}(?:, {PATH} {NUMBER})*"
+# Some of these are figures or letters elsewhere than in the document.
+SIGNS = " \t\n\r/-+;,@_.019azA\u00b2\u0663\uff11\u00e4"
 
 
 def free_paths(doc):
@@ -121,3 +132,40 @@ def all_by_the_way(parents, lengths):
     """For each stand how far each one is from it."""
     stands = range(len(parents))
     return [[by_the_way(parents, lengths, one, other) for other in stands] for one in stands]
+
+
+def altered(text, signs=SIGNS):
+    """All other texts that come of this one with one sign put in, left out or exchanged for another one."""
+    found = {text[:at] + text[at + 1:] for at in range(len(text))}
+    for sign in signs:
+        found.update(text[:at] + sign + text[at:] for at in range(len(text) + 1))
+        found.update(text[:at] + sign + text[at + 1:] for at in range(len(text)))
+    return sorted(found - {text})
+
+
+def path_by_the_words(text):
+    """The path that the text writes, which must write one."""
+    return tuple(text.split("/")[1:]) if text != "/" else ()
+
+
+def doc_by_the_words(text):
+    """The document that the text writes, or None."""
+    if not re.fullmatch(DOC, text):
+        return None
+    told = [part.split(" ") for part in text.split(", ")]
+    doc = {path_by_the_words(path): int(number) for path, number in told}
+    whole = len(doc) == len(told) and () in doc and all(path[:-1] in doc for path in doc)
+    return doc if whole else None
+
+
+def deed_by_the_words(text):
+    """The tuple that tells the deed that the text writes, which must write one."""
+    kind, *parts = text.split(" ")
+    return (kind, *[path_by_the_words(part) if part.startswith("/") else int(part) for part in parts])
+
+
+def row_by_the_words(text):
+    """The list of the tuples that tell the row that the text writes, or None."""
+    if not re.fullmatch(ROW, text):
+        return None
+    return [deed_by_the_words(part) for part in text.split("; ")] if text else []
